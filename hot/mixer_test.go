@@ -1,0 +1,13 @@
+package hot
+
+// mixer tells numbers of all sizes that look mixed, the same ones each time.
+func mixer() func() int {
+	seed := uint64(9)
+	next := func() uint64 {
+		seed ^= seed << 13
+		seed ^= seed >> 7
+		seed ^= seed << 17
+		return seed
+	}
+	return func() int { return int(int64(next()) >> (next() % 64)) }
+}
