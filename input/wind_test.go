@@ -220,7 +220,7 @@ func TestWindMixed(t *testing.T) {
 	less := below(next)
 	ons, most := 0, 0
 	for i := range 20000 {
-		size := 4 << (i % 26)
+		size := 4 << (i % 27)
 		number := func() int {
 			if n := next(); n&7 != 0 {
 				return n % (size + 1)
